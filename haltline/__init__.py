@@ -1,0 +1,1 @@
+"""Haltline: trains on one track between halts."""
