@@ -117,6 +117,11 @@ class Ways(unittest.TestCase):
             with self.subTest(ready), self.assertRaises(BadTrains):
                 way(self.line, (0, 2, ready))
 
+    def test_tuples_of_another_length(self):
+        for train in ((), (0,), (0, 2), (0, 2, 5, 5)):
+            with self.subTest(train), self.assertRaises(BadTrains):
+                way(self.line, train)
+
     def test_arguments_by_name(self):
         self.assertEqual(way(line=self.line, train=(0, 2, 0)), [0, 1])
 
