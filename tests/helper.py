@@ -196,16 +196,93 @@ def moving_orders(draw, line, trains):
     return orders
 
 
+def minute_by_minute(line, trains):
+    """The table of first come, first served: at every minute each train that can go on goes on, by their places."""
+    runs, gap = line.runs(), line.clear()
+    ahead = [path_of(train) for train in trains]
+    there = [train[2] for train in trains]
+    clear = [0 for _ in runs]
+    table = [[] for _ in trains]
+    minute = 0
+    while any(ahead):
+        for k in range(len(trains)):
+            if ahead[k] and there[k] <= minute and clear[ahead[k][0]] <= minute:
+                stretch = ahead[k].pop(0)
+                table[k].append(minute)
+                there[k] = minute + runs[stretch]
+                clear[stretch] = minute + runs[stretch] + gap
+        minute += 1
+    return table
+
+
+def best_of_all_orders(line, trains):
+    """The least last arrival of all orders that don't stick."""
+    least = [pushed_apart(line, trains, orders) for orders in all_orders(line, trains)]
+    return min(last_left(line, enters) for enters in least if enters is not None)
+
+
+def counted_orders(line, trains, enters):
+    """The orders that a table by visit keeps: each train stands behind as many as enter ahead of it."""
+    orders = []
+    for stretch in range(len(line.runs())):
+        going = [k for k, train in enumerate(trains) if stretch in path_of(train)]
+        order = [None for _ in going]
+        for k in going:
+            ahead = [other for other in going if enters[(other, stretch)] < enters[(k, stretch)]]
+            order[len(ahead)] = k
+        orders.append(order)
+    return orders
+
+
+def waiting_table(draw, line, trains, most_wait=3):
+    """A table that keeps the line: the trains are let go on one at a time, and may wait longer than they must."""
+    runs, gap = line.runs(), line.clear()
+    ahead = [path_of(train) for train in trains]
+    there = [train[2] for train in trains]
+    clear = [0 for _ in runs]
+    table = [[] for _ in trains]
+    while any(ahead):
+        moving = [k for k, path in enumerate(ahead) if path]
+        k = moving[draw.upto(len(moving) - 1)]
+        stretch = ahead[k].pop(0)
+        minute = max(there[k], clear[stretch]) + draw.upto(most_wait)
+        table[k].append(minute)
+        there[k] = minute + runs[stretch]
+        clear[stretch] = minute + runs[stretch] + gap
+    return table
+
+
+def drawn_tables(seed, count):
+    """Lines and trains of all sizes, each with a table that keeps the line, with waits and without."""
+    draw = Draw(seed)
+    for _ in range(count):
+        line, trains = drawn_case(draw)
+        yield line, trains, waiting_table(draw, line, trains, 0)
+        yield line, trains, waiting_table(draw, line, trains)
+
+
+def crowded_case(draw, most_stretches=5, most_trains=5):
+    """A line and trains that are ready at about the same minute, so that they are in each other's way."""
+    line, trains = drawn_case(draw, most_stretches, most_trains)
+    return line, [(start, end, draw.upto(8)) for start, end, _ in trains]
+
+
+def small_trains(stretches, readies, count):
+    """Every list of so many trains on so many stretches with these ready minutes."""
+    halts = range(stretches + 1)
+    kinds = [(a, b, m) for a in halts for b in halts if a != b for m in readies]
+    for trains in product(kinds, repeat=count):
+        yield list(trains)
+
+
 def small_cases():
     """Lines of one and two stretches with one to three trains, and all orders for them."""
     for runs, gap in (([1], 0), ([2], 1), ([1, 2], 0), ([3, 1], 2)):
         line = Line(runs, gap)
-        halts = range(len(runs) + 1)
-        kinds = [(a, b, m) for a in halts for b in halts if a != b for m in (0, 3)]
         for count in (1, 2):
-            for trains in product(kinds, repeat=count):
+            for trains in small_trains(len(runs), (0, 3), count):
                 for orders in all_orders(line, trains):
-                    yield line, list(trains), orders
+                    yield line, trains, orders
     line = Line([2, 1], 1)
     ends = ((0, 2, 0), (2, 0, 1), (0, 1, 2), (2, 1, 0))
     for trains in product(ends, repeat=3):
@@ -224,3 +301,9 @@ def drawn_cases(seed, count):
 
 # Two trains against each other; each is let on first where the other one has to come from.
 STUCK = (Line([4, 6], 1), [(0, 2, 0), (2, 0, 3)], [[1, 0], [0, 1]])
+
+# Wrong lists of trains for a line of two stretches.
+BAD_TRAINS = (
+    [], [(0, 1, 0)] * 6, [(0, 0, 0)], [(2, 2, 0)], [(-1, 1, 0)], [(1, -1, 0)], [(3, 1, 0)], [(1, 3, 0)],
+    [(0, 2, -1)], [(0, 2, 61)], [(0, 2, 0), (1, 1, 0)], [(0, 2, 61), (0, 2, 0)], [(0, 2, 0), (0, 2, 0), (0, 3, 0)],
+)
